@@ -1,0 +1,47 @@
+"""Ships, parts and boxes that the tests share."""
+
+GREAT = 10 ** 60 - 1
+
+
+def part(cells=3, strength=50, height=40, plugs=(), lash=70):
+    return (cells, strength, height, plugs, lash)
+
+
+def box(name, weight=5, height=3, cold=0, sort="tea", port=1):
+    return (name, weight, height, cold, sort, port)
+
+
+def ship_args(parts, foes=(), trim=100, heel=100):
+    """The arguments of a ship of bays of stacks of pairs (hold, deck), with lists wherever lists may stand."""
+    bays = []
+    for arm, stacks in enumerate(parts):
+        bays.append((arm - 1, [(side - 1, hold, deck) for side, (hold, deck) in enumerate(stacks)]))
+    return (bays, list(foes), trim, heel)
+
+
+def uneven_ship_args():
+    """Three bays of one, three and two stacks; no two parts alike, three of them without cells."""
+    return ship_args([
+        [(part(1, 10), part(2, 11))],
+        [(part(2, 12), part(0, 13)), (part(0, 14), part(1, 15)), (part(3, 16), part(1, 17))],
+        [(part(0, 18), part(2, 19)), (part(1, 20), part(1, 21))],
+    ])
+
+
+UNEVEN_PARTS = [
+    (0, 0, 0),
+    (0, 0, 1),
+    (1, 0, 0), (1, 1, 0), (1, 2, 0),
+    (1, 0, 1), (1, 1, 1), (1, 2, 1),
+    (2, 0, 0), (2, 1, 0),
+    (2, 0, 1), (2, 1, 1),
+]
+
+UNEVEN_CELLS = [
+    (0, 0, 0, 0),
+    (0, 0, 1, 0), (0, 0, 1, 1),
+    (1, 0, 0, 0), (1, 0, 0, 1), (1, 2, 0, 0), (1, 2, 0, 1), (1, 2, 0, 2),
+    (1, 1, 1, 0), (1, 2, 1, 0),
+    (2, 1, 0, 0),
+    (2, 0, 1, 0), (2, 0, 1, 1), (2, 1, 1, 0),
+]

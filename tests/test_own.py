@@ -1,0 +1,142 @@
+"""[1] and [3]: nothing handed in is changed or kept, and what is told is the asker's own."""
+
+import copy
+import unittest
+
+from samples import UNEVEN_CELLS, UNEVEN_PARTS, box, part, ship_args, uneven_ship_args
+from stowhold.errors import NoLoad, NoShip, OutOfShip
+from stowhold.loads import Load, box_at, cell_of, top_of
+from stowhold.ships import Ship, cells_of, part_at, parts_of
+
+
+def lists_within(thing):
+    if isinstance(thing, (list, dict)):
+        return True
+    return isinstance(thing, tuple) and any(lists_within(one) for one in thing)
+
+
+def listed_args():
+    return ship_args([[(part(plugs=[0]), part(plugs=[1, 2]))] * 2] * 2, [("tea", "oil")])
+
+
+class HandedIn(unittest.TestCase):
+    def test_a_ship_changes_nothing(self):
+        args = listed_args()
+        before = copy.deepcopy(args)
+        Ship(*args)
+        self.assertEqual(args, before)
+
+    def test_a_load_changes_nothing(self):
+        placed = [((0, 1, 0, 0), box("b")), ((0, 0, 0, 1), box("c")), ((0, 0, 0, 0), box("a"))]
+        before = list(placed)
+        Load(Ship(*listed_args()), placed)
+        self.assertEqual(placed, before)
+
+    def test_a_refusal_changes_nothing(self):
+        args = ship_args([[(part(plugs=[2, 1]), part())]], [("tea", "oil")])
+        before = copy.deepcopy(args)
+        with self.assertRaises(NoShip):
+            Ship(*args)
+        self.assertEqual(args, before)
+        placed = [((0, 0, 0, 1), box("b")), ((0, 1, 0, 0), box("a"))]
+        with self.assertRaises(NoLoad):
+            Load(Ship(*listed_args()), placed)
+        self.assertEqual(placed, [((0, 0, 0, 1), box("b")), ((0, 1, 0, 0), box("a"))])
+
+    def test_asking_changes_neither_ship_nor_load(self):
+        ship = Ship(*listed_args())
+        load = Load(ship, [((0, 0, 0, 0), box("a"))])
+        before = copy.deepcopy((vars(ship), load.placed))
+        for part_name in parts_of(ship):
+            part_at(ship, part_name)
+            top_of(load, part_name)
+        for cell in cells_of(ship):
+            box_at(load, cell)
+        cell_of(load, "a")
+        cell_of(load, "b")
+        box_at(load, (9, 9, 9, 9))
+        for ask in (lambda: part_at(ship, (9, 0, 0)), lambda: top_of(load, (9, 0, 0))):
+            self.assertRaises(OutOfShip, ask)
+        self.assertEqual((vars(ship), load.placed), before)
+
+
+class NotKept(unittest.TestCase):
+    def test_a_ship_keeps_no_list(self):
+        ship = Ship(*listed_args())
+        for field in (ship.bays, ship.foes):
+            self.assertIsInstance(field, tuple)
+            self.assertFalse(lists_within(field))
+
+    def test_lists_of_a_ship_changed_afterwards(self):
+        plugs, other_plugs, foes = [0], [1], [("tea", "oil")]
+        stacks = [(0, part(plugs=plugs), part(plugs=other_plugs))]
+        bays = [(0, stacks)]
+        ship = Ship(bays, foes, 1, 2)
+        before = copy.deepcopy(vars(ship))
+        told = (parts_of(ship), cells_of(ship), part_at(ship, (0, 0, 0)), part_at(ship, (0, 0, 1)))
+        plugs.append(1)
+        other_plugs[0] = 2
+        foes.append(("oil", "oil"))
+        stacks.append((1, part(), part()))
+        bays.append((1, stacks))
+        self.assertEqual(vars(ship), before)
+        self.assertEqual((parts_of(ship), cells_of(ship), part_at(ship, (0, 0, 0)), part_at(ship, (0, 0, 1))), told)
+        self.assertEqual((ship.bays[0][1][0][1][3], ship.bays[0][1][0][2][3]), ((0,), (1,)))
+
+    def test_the_list_of_a_load_changed_afterwards(self):
+        placed = [((0, 0, 0, 0), box("a"))]
+        load = Load(Ship(*listed_args()), placed)
+        placed.append(((0, 0, 0, 1), box("b")))
+        placed[0] = ((0, 1, 0, 0), box("c"))
+        self.assertEqual(load.placed, (((0, 0, 0, 0), box("a")),))
+        self.assertEqual([box_at(load, (0, 0, 0, 0)), box_at(load, (0, 0, 0, 1)), box_at(load, (0, 1, 0, 0))],
+                         [box("a"), None, None])
+        self.assertEqual([cell_of(load, "a"), cell_of(load, "b"), cell_of(load, "c")], [(0, 0, 0, 0), None, None])
+        self.assertEqual([top_of(load, (0, 0, 0)), top_of(load, (0, 1, 0))], [1, 0])
+
+    def test_one_list_for_two_loads(self):
+        ship, placed = Ship(*listed_args()), [((0, 0, 0, 0), box("a"))]
+        first = Load(ship, placed)
+        placed.append(((0, 0, 0, 1), box("b")))
+        second = Load(ship, placed)
+        self.assertEqual((len(first.placed), len(second.placed)), (1, 2))
+        self.assertEqual((top_of(first, (0, 0, 0)), top_of(second, (0, 0, 0))), (1, 2))
+
+
+class Told(unittest.TestCase):
+    def test_lists_that_were_told_are_the_askers_own(self):
+        ship = Ship(*uneven_ship_args())
+        for tell, told in ((parts_of, UNEVEN_PARTS), (cells_of, UNEVEN_CELLS)):
+            first = tell(ship)
+            second = tell(ship)
+            first.append("more")
+            first[0] = "other"
+            self.assertEqual(second, told)
+            self.assertEqual(tell(ship), told)
+            second.clear()
+            self.assertEqual(tell(ship), told)
+
+    def test_a_told_list_does_not_reach_the_load(self):
+        ship = Ship(*uneven_ship_args())
+        load = Load(ship, [((1, 0, 0, 0), box("a"))])
+        cells_of(ship).clear()
+        parts_of(ship).clear()
+        self.assertEqual(top_of(load, (1, 0, 0)), 1)
+        self.assertEqual(len(Load(ship, [((1, 0, 0, 0), box("a"))]).placed), 1)
+
+    def test_what_is_told_of_loads_and_parts_holds_no_list(self):
+        ship = Ship(*listed_args())
+        load = Load(ship, [((0, 0, 0, 0), box("a"))])
+        for told in (load.placed, box_at(load, (0, 0, 0, 0)), cell_of(load, "a"), part_at(ship, (0, 0, 1))):
+            self.assertIsInstance(told, tuple)
+            self.assertFalse(lists_within(told))
+
+    def test_two_ships_have_nothing_in_common(self):
+        one, other = Ship(*listed_args()), Ship(*uneven_ship_args())
+        self.assertEqual(cells_of(other), UNEVEN_CELLS)
+        self.assertEqual(len(cells_of(one)), 24)
+        self.assertEqual(parts_of(other), UNEVEN_PARTS)
+
+
+if __name__ == "__main__":
+    unittest.main()
