@@ -1,4 +1,4 @@
-"""The package keeps to its small part of Python: what of the rules L1 to L28 can be seen in the text and its tree."""
+"""Part of the rules L1 to L28 of the package's small part of Python; L13, L19 and L22 to L24 are not asked here."""
 
 import ast
 import builtins
