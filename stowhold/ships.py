@@ -74,10 +74,18 @@ def cells_of_part(ship, part):
 
 
 def part_at(ship, part):
+    return stack_at(ship, part)[1 + part[2]]
+
+
+def arms_at(ship, part):
+    side = stack_at(ship, part)[0]
+    return (ship.bays[part[0]][0], side)
+
+
+def stack_at(ship, part):
     if not has_part(ship, part):
         raise OutOfShip("the ship has no such part")
-    stack = ship.bays[part[0]][1][part[1]]
-    return stack[1 + part[2]]
+    return ship.bays[part[0]][1][part[1]]
 
 
 def has_part(ship, part):

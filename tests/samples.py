@@ -11,6 +11,10 @@ def box(name, weight=5, height=3, cold=0, sort="tea", port=1):
     return (name, weight, height, cold, sort, port)
 
 
+def named(number):
+    return "box" + "abcdefghijklmnopqrstuvwxyz"[number]
+
+
 def ship_args(parts, foes=(), trim=100, heel=100):
     """The arguments of a ship of bays of stacks of pairs (hold, deck), with lists wherever lists may stand."""
     bays = []
@@ -44,4 +48,12 @@ UNEVEN_CELLS = [
     (1, 1, 1, 0), (1, 2, 1, 0),
     (2, 1, 0, 0),
     (2, 0, 1, 0), (2, 0, 1, 1), (2, 1, 1, 0),
+]
+
+# None of them is a cell of the uneven ship.
+NOT_CELLS = [
+    (3, 0, 0, 0), (-1, 0, 1, 0), (-3, 0, 0, 0), (GREAT, 0, 0, 0), (-GREAT, 0, 0, 0),
+    (0, 1, 0, 0), (1, 3, 0, 0), (2, 2, 1, 0), (0, -1, 0, 0), (1, -1, 0, 0), (1, GREAT, 0, 0), (1, -GREAT, 0, 0),
+    (0, 0, 2, 0), (0, 0, -1, 0), (0, 0, -2, 0), (0, 0, GREAT, 0), (0, 0, -GREAT, 0),
+    (0, 0, 0, 1), (0, 0, 0, -1), (1, 0, 1, 0), (1, 1, 0, 0), (2, 0, 0, 0), (0, 0, 0, GREAT), (0, 0, 0, -GREAT),
 ]

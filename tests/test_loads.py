@@ -3,21 +3,10 @@
 import itertools
 import unittest
 
-from samples import GREAT, UNEVEN_CELLS, UNEVEN_PARTS, box, part, ship_args, uneven_ship_args
+from samples import GREAT, NOT_CELLS, UNEVEN_CELLS, UNEVEN_PARTS, box, named, part, ship_args, uneven_ship_args
 from stowhold.errors import NoLoad, OutOfShip
 from stowhold.loads import Load, box_at, cell_of, top_of
 from stowhold.ships import Ship, cells_of
-
-NOT_CELLS = [
-    (3, 0, 0, 0), (-1, 0, 1, 0), (-3, 0, 0, 0), (GREAT, 0, 0, 0), (-GREAT, 0, 0, 0),
-    (0, 1, 0, 0), (1, 3, 0, 0), (2, 2, 1, 0), (0, -1, 0, 0), (1, -1, 0, 0), (1, GREAT, 0, 0), (1, -GREAT, 0, 0),
-    (0, 0, 2, 0), (0, 0, -1, 0), (0, 0, -2, 0), (0, 0, GREAT, 0), (0, 0, -GREAT, 0),
-    (0, 0, 0, 1), (0, 0, 0, -1), (1, 0, 1, 0), (1, 1, 0, 0), (2, 0, 0, 0), (0, 0, 0, GREAT), (0, 0, 0, -GREAT),
-]
-
-
-def named(number):
-    return "box" + "abcdefghijklmnopqrstuvwxyz"[number]
 
 
 def full_placed():

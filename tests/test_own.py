@@ -4,8 +4,11 @@ import copy
 import unittest
 
 from samples import UNEVEN_CELLS, UNEVEN_PARTS, box, part, ship_args, uneven_ship_args
-from stowhold.errors import NoLoad, NoShip, OutOfShip
+from stowhold.errors import BadLift, BadRow, NoBox, NoLoad, NoShip, OutOfShip
+from stowhold.lifts import after_lift, after_lifts, sound_row, way_back
 from stowhold.loads import Load, box_at, cell_of, top_of
+from stowhold.moments import even, makeweight, moments, moments_with, moments_without
+from stowhold.rules import Apart, Cold, Height, Lash, Rule, Strength, faults_of, sound
 from stowhold.ships import Ship, cells_of, part_at, parts_of
 
 
@@ -17,6 +20,15 @@ def lists_within(thing):
 
 def listed_args():
     return ship_args([[(part(plugs=[0]), part(plugs=[1, 2]))] * 2] * 2, [("tea", "oil")])
+
+
+def faulty_load():
+    """A ship and a load of two boxes of foes, the upper one being too heavy and cold without a plug."""
+    ship = Ship(*listed_args())
+    return ship, Load(ship, [((0, 0, 0, 0), box("a")), ((0, 0, 0, 1), box("b", 46, 3, 1, "oil"))])
+
+
+FAULTS = [("apart", (0, 0, 0, 0)), ("strength", (0, 0, 0, 1)), ("cold", (0, 0, 0, 1)), ("apart", (0, 0, 0, 1))]
 
 
 class HandedIn(unittest.TestCase):
@@ -58,6 +70,41 @@ class HandedIn(unittest.TestCase):
         for ask in (lambda: part_at(ship, (9, 0, 0)), lambda: top_of(load, (9, 0, 0))):
             self.assertRaises(OutOfShip, ask)
         self.assertEqual((vars(ship), load.placed), before)
+
+    def test_rules_moments_and_lifts_change_neither_ship_nor_load(self):
+        ship, load = faulty_load()
+        before = copy.deepcopy((vars(ship), load.placed))
+        row = [("off", (0, 0, 0, 1)), ("on", (0, 1, 0, 0), box("c"))]
+        for ask in (faults_of, sound, moments, even, lambda asked: after_lift(asked, row[0]),
+                    lambda asked: after_lifts(asked, row), lambda asked: sound_row(asked, row),
+                    lambda asked: way_back(asked, row), lambda asked: moments_with(asked, (1, 0, 0, 0), box("c")),
+                    lambda asked: moments_without(asked, (0, 0, 0, 0)), lambda asked: makeweight(asked, (0, 0, 1))):
+            ask(load)
+            self.assertEqual((vars(ship), load.placed), before)
+        for rule in (Rule(), Strength(), Height(), Cold(), Apart(), Lash()):
+            for cell in cells_of(ship):
+                rule.broken(load, cell)
+        self.assertEqual((vars(ship), load.placed), before)
+
+    def test_refused_lifts_and_questions_change_neither_ship_nor_load(self):
+        ship, load = faulty_load()
+        before = copy.deepcopy((vars(ship), load.placed))
+        row = [("off", (0, 0, 0, 1)), ("off", (0, 0, 0, 1))]
+        for refusal, ask in ((BadLift, lambda: after_lift(load, ("off", (0, 0, 0, 0)))),
+                             (BadRow, lambda: after_lifts(load, row)), (BadRow, lambda: sound_row(load, row)),
+                             (BadRow, lambda: way_back(load, row)),
+                             (NoBox, lambda: moments_without(load, (1, 1, 1, 1))),
+                             (OutOfShip, lambda: makeweight(load, (2, 0, 0)))):
+            self.assertRaises(refusal, ask)
+            self.assertEqual((vars(ship), load.placed), before)
+        self.assertEqual(row, [("off", (0, 0, 0, 1)), ("off", (0, 0, 0, 1))])
+
+    def test_a_row_of_lifts_is_as_it_was(self):
+        ship, load = faulty_load()
+        row = [("off", (0, 0, 0, 1)), ("on", (0, 1, 0, 0), box("c")), ("off", (0, 0, 0, 0))]
+        for ask in (after_lifts, sound_row, way_back):
+            ask(load, row)
+            self.assertEqual(row, [("off", (0, 0, 0, 1)), ("on", (0, 1, 0, 0), box("c")), ("off", (0, 0, 0, 0))])
 
 
 class NotKept(unittest.TestCase):
@@ -102,6 +149,18 @@ class NotKept(unittest.TestCase):
         self.assertEqual((len(first.placed), len(second.placed)), (1, 2))
         self.assertEqual((top_of(first, (0, 0, 0)), top_of(second, (0, 0, 0))), (1, 2))
 
+    def test_a_row_of_lifts_changed_afterwards(self):
+        ship, load = faulty_load()
+        row = [("off", (0, 0, 0, 1)), ("on", (0, 1, 0, 0), box("c"))]
+        behind, back = after_lifts(load, row), way_back(load, row)
+        row.append(("off", (0, 1, 0, 0)))
+        row[0] = ("off", (0, 0, 0, 0))
+        self.assertEqual(behind.placed, (((0, 0, 0, 0), box("a")), ((0, 1, 0, 0), box("c"))))
+        self.assertEqual(back, [("off", (0, 1, 0, 0)), ("on", (0, 0, 0, 1), box("b", 46, 3, 1, "oil"))])
+        row.clear()
+        self.assertIsNot(way_back(load, row), row)
+        self.assertEqual(way_back(load, row), [])
+
 
 class Told(unittest.TestCase):
     def test_lists_that_were_told_are_the_askers_own(self):
@@ -123,6 +182,48 @@ class Told(unittest.TestCase):
         parts_of(ship).clear()
         self.assertEqual(top_of(load, (1, 0, 0)), 1)
         self.assertEqual(len(Load(ship, [((1, 0, 0, 0), box("a"))]).placed), 1)
+
+    def test_faults_that_were_told_are_the_askers_own(self):
+        ship, load = faulty_load()
+        first, second = faults_of(load), faults_of(load)
+        first.append("more")
+        first[0] = "other"
+        self.assertEqual(second, FAULTS)
+        self.assertEqual(faults_of(load), FAULTS)
+        second.clear()
+        self.assertEqual(faults_of(load), FAULTS)
+        self.assertIs(sound(load), False)
+        empty = Load(ship, [])
+        faults_of(empty).append(FAULTS[0])
+        self.assertEqual((faults_of(empty), sound(empty)), ([], True))
+
+    def test_a_way_back_that_was_told_is_the_askers_own(self):
+        ship, load = faulty_load()
+        row = [("off", (0, 0, 0, 1)), ("on", (0, 1, 0, 0), box("c"))]
+        told = [("off", (0, 1, 0, 0)), ("on", (0, 0, 0, 1), box("b", 46, 3, 1, "oil"))]
+        first, second = way_back(load, row), way_back(load, row)
+        first.append("more")
+        first[0] = "other"
+        self.assertEqual(second, told)
+        second.clear()
+        self.assertEqual(way_back(load, row), told)
+
+    def test_loads_behind_one_another_have_nothing_in_common(self):
+        ship, load = faulty_load()
+        behind = after_lift(load, ("off", (0, 0, 0, 1)))
+        told = behind.placed
+        further = after_lift(behind, ("on", (0, 1, 1, 0), box("c")))
+        after_lifts(behind, [("off", (0, 0, 0, 0)), ("on", (0, 0, 0, 0), box("d"))])
+        self.assertEqual(behind.placed, told)
+        self.assertEqual((len(load.placed), len(behind.placed), len(further.placed)), (2, 1, 2))
+        self.assertEqual([cell_of(load, "c"), cell_of(behind, "c"), cell_of(further, "c")], [None, None, (0, 1, 1, 0)])
+
+    def test_what_is_told_of_moments_holds_no_list(self):
+        ship, load = faulty_load()
+        for told in (moments(load), moments_with(load, (0, 0, 0, 2), box("c")), moments_without(load, (0, 0, 0, 1)),
+                     makeweight(load, (0, 0, 0))):
+            self.assertIsInstance(told, tuple)
+            self.assertFalse(lists_within(told))
 
     def test_what_is_told_of_loads_and_parts_holds_no_list(self):
         ship = Ship(*listed_args())
