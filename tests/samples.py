@@ -1,5 +1,7 @@
 """Ships, parts and boxes that the tests share."""
 
+from stowhold.ships import Ship
+
 GREAT = 10 ** 60 - 1
 
 
@@ -30,6 +32,34 @@ def uneven_ship_args():
         [(part(2, 12), part(0, 13)), (part(0, 14), part(1, 15)), (part(3, 16), part(1, 17))],
         [(part(0, 18), part(2, 19)), (part(1, 20), part(1, 21))],
     ])
+
+
+def plain_ship():
+    """Two bays of three stacks, three cells in each part."""
+    return Ship(*ship_args([[(part(), part())] * 3] * 2))
+
+
+def great_ship(foes=()):
+    """The greatest ship: eight bays of eight stacks of parts of nine cells, and numbers of sixty figures."""
+    great = part(9, GREAT, GREAT, tuple(range(9)), GREAT)
+    return Ship(*ship_args([[(great, great)] * 8] * 8, foes, GREAT, GREAT))
+
+
+def great_box(number, weight=GREAT, height=GREAT):
+    """One of a hundred boxes with the longest names, sorts and numbers."""
+    return box("a" * 10 + named(number // 26)[-1] + named(number % 26)[-1], weight, height, 1, "s" * 12, GREAT)
+
+
+def chance_ship(chance, stacks, foes):
+    """Two bays of so many stacks; parts of nought to three cells that bear little."""
+    bays = [[(chance_part(chance), chance_part(chance)) for stack in range(stacks)] for bay in range(2)]
+    return Ship(*ship_args(bays, foes))
+
+
+def chance_part(chance):
+    cells = chance.randrange(4)
+    plugs = [tier for tier in range(cells) if chance.random() < 0.5]
+    return part(cells, chance.randrange(14), chance.randrange(14), plugs, chance.randrange(18))
 
 
 UNEVEN_PARTS = [

@@ -3,7 +3,7 @@
 import itertools
 import unittest
 
-from samples import GREAT, NOT_CELLS, UNEVEN_CELLS, box, named, part, ship_args, uneven_ship_args
+from samples import GREAT, NOT_CELLS, UNEVEN_CELLS, box, named, part, plain_ship, ship_args, uneven_ship_args
 from stowhold.errors import BadLift, BadRow
 from stowhold.lifts import after_lift, after_lifts, sound_row, way_back
 from stowhold.loads import Load
@@ -11,11 +11,6 @@ from stowhold.rules import sound
 from stowhold.ships import Ship
 
 NEW = box("new", 6, 2, 1, "silk", 3)
-
-
-def plain_ship():
-    """Two bays of three stacks, three cells in each part."""
-    return Ship(*ship_args([[(part(), part())] * 3] * 2))
 
 
 def off(*cell):

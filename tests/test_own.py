@@ -4,10 +4,13 @@ import copy
 import unittest
 
 from samples import UNEVEN_CELLS, UNEVEN_PARTS, box, part, ship_args, uneven_ship_args
-from stowhold.errors import BadLift, BadRow, NoBox, NoLoad, NoShip, OutOfShip
+from stowhold.errors import BadLift, BadRow, NoBox, NoLoad, NoPlace, NoShip, OutOfShip, Twice
+from stowhold.fewest import idle_lifts, lifts_to, must_off
 from stowhold.lifts import after_lift, after_lifts, sound_row, way_back
+from stowhold.loading import loaded, loaded_by_ports
 from stowhold.loads import Load, box_at, cell_of, top_of
 from stowhold.moments import even, makeweight, moments, moments_with, moments_without
+from stowhold.places import bar_at, bars_of, free_places
 from stowhold.rules import Apart, Cold, Height, Lash, Rule, Strength, faults_of, sound
 from stowhold.ships import Ship, cells_of, part_at, parts_of
 
@@ -29,6 +32,24 @@ def faulty_load():
 
 
 FAULTS = [("apart", (0, 0, 0, 0)), ("strength", (0, 0, 0, 1)), ("cold", (0, 0, 0, 1)), ("apart", (0, 0, 0, 1))]
+
+
+def load_and_plan():
+    """A load and a plan for it with boxes that go, move, stand above and stand on a hatch."""
+    ship = Ship(*listed_args())
+    load = Load(ship, [((0, 0, 0, 0), box("a")), ((0, 0, 0, 1), box("b")), ((0, 1, 1, 0), box("d")),
+                       ((1, 0, 0, 0), box("m"))])
+    plan = Load(ship, [((0, 0, 0, 0), box("n")), ((0, 0, 0, 1), box("b")), ((0, 1, 1, 0), box("d")),
+                       ((1, 1, 0, 0), box("m"))])
+    return load, plan
+
+
+MUST_OFF = [("a", "goes", ""), ("b", "above", "a"), ("d", "hatch", "a"), ("m", "moves", "")]
+
+
+def boxes_to_load():
+    """Two that can be loaded onto faulty_load, and two that can not, neither in the order of ports."""
+    return [box("z", 99, port=1), box("c", port=1), box("y", 99, port=2), box("e", port=3)]
 
 
 class HandedIn(unittest.TestCase):
@@ -107,6 +128,40 @@ class HandedIn(unittest.TestCase):
             self.assertEqual(row, [("off", (0, 0, 0, 1)), ("on", (0, 1, 0, 0), box("c")), ("off", (0, 0, 0, 0))])
 
 
+    def test_load_and_plan_are_as_they_were(self):
+        load, plan = load_and_plan()
+        before = copy.deepcopy((vars(load.ship), load.placed, plan.placed))
+        for ask in (must_off, lifts_to, idle_lifts):
+            ask(load, plan)
+            self.assertEqual((vars(load.ship), load.placed, plan.placed), before)
+
+    def test_places_and_loading_change_neither_ship_nor_load(self):
+        ship, load = faulty_load()
+        before = copy.deepcopy((vars(ship), load.placed))
+        for ask in (free_places, lambda asked: bar_at(asked, (0, 0, 0, 2), box("c")),
+                    lambda asked: bars_of(asked, box("c")), lambda asked: loaded(asked, boxes_to_load()),
+                    lambda asked: loaded_by_ports(asked, boxes_to_load())):
+            ask(load)
+            self.assertEqual((vars(ship), load.placed), before)
+        for refusal, ask in ((NoPlace, lambda: bar_at(load, (0, 0, 0, 0), box("c"))),
+                             (Twice, lambda: bar_at(load, (0, 0, 0, 2), box("a"))),
+                             (Twice, lambda: bars_of(load, box("b"))),
+                             (Twice, lambda: loaded(load, [box("c"), box("a")])),
+                             (Twice, lambda: loaded_by_ports(load, [box("c"), box("c")]))):
+            self.assertRaises(refusal, ask)
+            self.assertEqual((vars(ship), load.placed), before)
+
+    def test_a_list_of_boxes_is_as_it_was(self):
+        ship, load = faulty_load()
+        for load_boxes in (loaded, loaded_by_ports):
+            boxes = boxes_to_load()
+            load_boxes(load, boxes)
+            self.assertEqual(boxes, boxes_to_load())
+            boxes.append(box("a"))
+            self.assertRaises(Twice, load_boxes, load, boxes)
+            self.assertEqual(boxes, boxes_to_load() + [box("a")])
+
+
 class NotKept(unittest.TestCase):
     def test_a_ship_keeps_no_list(self):
         ship = Ship(*listed_args())
@@ -160,6 +215,20 @@ class NotKept(unittest.TestCase):
         row.clear()
         self.assertIsNot(way_back(load, row), row)
         self.assertEqual(way_back(load, row), [])
+
+
+    def test_a_list_of_boxes_changed_afterwards(self):
+        ship, load = faulty_load()
+        for load_boxes in (loaded, loaded_by_ports):
+            boxes = boxes_to_load()
+            filled, left = load_boxes(load, boxes)
+            before = copy.deepcopy((filled.placed, left))
+            boxes.append(box("f"))
+            boxes[0] = box("g")
+            self.assertEqual((filled.placed, left), before)
+            boxes.clear()
+            self.assertEqual((filled.placed, left), before)
+            self.assertIsNot(load_boxes(load, boxes)[1], boxes)
 
 
 class Told(unittest.TestCase):
@@ -217,6 +286,63 @@ class Told(unittest.TestCase):
         self.assertEqual(behind.placed, told)
         self.assertEqual((len(load.placed), len(behind.placed), len(further.placed)), (2, 1, 2))
         self.assertEqual([cell_of(load, "c"), cell_of(behind, "c"), cell_of(further, "c")], [None, None, (0, 1, 1, 0)])
+
+    def check_own(self, tell, told):
+        """What is done to a list that was told changes neither one that was told besides nor one told later."""
+        first, second = tell(), tell()
+        self.assertEqual(first, told)
+        first.append("more")
+        first[0] = "other"
+        self.assertEqual(second, told)
+        second.clear()
+        self.assertEqual(tell(), told)
+
+    def test_lists_on_the_way_to_a_plan_are_the_askers_own(self):
+        load, plan = load_and_plan()
+        row = lifts_to(load, plan)
+        self.check_own(lambda: must_off(load, plan), MUST_OFF)
+        self.check_own(lambda: lifts_to(load, plan), list(row))
+        self.assertEqual(idle_lifts(load, plan), 4)
+        for told in must_off(load, plan) + lifts_to(load, plan):
+            self.assertIsInstance(told, tuple)
+            self.assertFalse(lists_within(told))
+        must_off(load, load).append(MUST_OFF[0])
+        lifts_to(load, load).append(row[0])
+        self.assertEqual((must_off(load, load), lifts_to(load, load), idle_lifts(load, load)), ([], [], 0))
+
+    def test_places_and_bars_that_were_told_are_the_askers_own(self):
+        ship, load = faulty_load()
+        places = [(0, 0, 0, 2), (0, 1, 0, 0), (0, 0, 1, 0), (0, 1, 1, 0), (1, 0, 0, 0), (1, 1, 0, 0), (1, 0, 1, 0),
+                  (1, 1, 1, 0)]
+        bars = [(cell, word) for cell, word in zip(places, ["strength", "apart"] + [None] * 6)]
+        self.check_own(lambda: free_places(load), places)
+        self.check_own(lambda: bars_of(load, box("c")), bars)
+        self.assertIsNone(bar_at(load, (0, 0, 1, 0), box("c")))
+        for told in free_places(load) + bars_of(load, box("c")):
+            self.assertIsInstance(told, tuple)
+            self.assertFalse(lists_within(told))
+
+    def test_what_was_left_is_the_askers_own(self):
+        ship, load = faulty_load()
+        for load_boxes in (loaded, loaded_by_ports):
+            first, second = load_boxes(load, boxes_to_load()), load_boxes(load, boxes_to_load())
+            before = copy.deepcopy(second[1])
+            self.assertEqual([len(bars) > 0 for one, bars in before], [True, True])
+            # Two boxes that were left behind one another with the same bars have a list each.
+            first[1][0][1].append("more")
+            self.assertEqual(first[1][1], before[1])
+            first[1][1][1].clear()
+            first[1].clear()
+            self.assertEqual(second[1], before)
+            self.assertEqual(load_boxes(load, boxes_to_load())[1], before)
+            self.assertEqual(bars_of(load, box("z", 99))[0], ((0, 0, 0, 2), "strength"))
+
+    def test_two_that_were_left_without_a_free_place_have_a_list_each(self):
+        load = Load(Ship(*ship_args([[(part(0), part(0))]])), [])
+        left = loaded(load, [box("a"), box("b")])[1]
+        left[0][1].append("more")
+        self.assertEqual(left[1], (box("b"), []))
+        self.assertEqual(loaded(load, [box("a")])[1], [(box("a"), [])])
 
     def test_what_is_told_of_moments_holds_no_list(self):
         ship, load = faulty_load()
