@@ -35,8 +35,11 @@ def check_new(load, box):
 
 
 def first_bar(load, cell, box):
-    behind = after_lift(load, ("on", cell, box))
-    # No other cell is asked: nothing stands above the box, so it counts in no other box's sums, and where it makes
-    # a box near it break apart, that one is its foe, so it breaks apart itself.
+    return first_break(after_lift(load, ("on", cell, box)), cell)
+
+
+def first_break(behind, cell):
+    # Asked of the load behind an on at the cell. No other cell is asked: nothing stands above the box, so it counts in
+    # no other box's sums, and where it makes a box near it break apart, that one is its foe, so it breaks apart itself.
     words = [rule.word() for rule in all_rules() if rule.broken(behind, cell)]
     return words[0] if len(words) > 0 else None

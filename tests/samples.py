@@ -1,6 +1,8 @@
-"""Ships, parts and boxes that the tests share."""
+"""Ships, parts, boxes and questions that the tests share."""
 
-from stowhold.ships import Ship
+from stowhold.loads import Load
+from stowhold.rules import Apart, Cold, Height, Lash, Strength
+from stowhold.ships import Ship, cells_of
 
 GREAT = 10 ** 60 - 1
 
@@ -60,6 +62,16 @@ def chance_part(chance):
     cells = chance.randrange(4)
     plugs = [tier for tier in range(cells) if chance.random() < 0.5]
     return part(cells, chance.randrange(14), chance.randrange(14), plugs, chance.randrange(18))
+
+
+def bar_by_words(load, cell, one):
+    """What bar_at is to tell, word by word as [23] says it: each rule at each cell, with the box and without it."""
+    behind = Load(load.ship, load.placed + ((cell, one),))
+    for rule in (Strength(), Height(), Cold(), Apart(), Lash()):
+        for where in cells_of(load.ship):
+            if rule.broken(behind, where) and not rule.broken(load, where):
+                return rule.word()
+    return None
 
 
 UNEVEN_PARTS = [

@@ -4,15 +4,20 @@ import copy
 import unittest
 
 from samples import UNEVEN_CELLS, UNEVEN_PARTS, box, part, ship_args, uneven_ship_args
-from stowhold.errors import BadLift, BadRow, NoBox, NoLoad, NoPlace, NoShip, OutOfShip, Twice
+from stowhold.errors import (BadLift, BadRow, NoBox, NoFilling, NoLoad, NoNote, NoPlace, NoPlan, NoShip, OutOfShip,
+                             StowError, Twice)
 from stowhold.fewest import idle_lifts, lifts_to, must_off
+from stowhold.fillings import best_filling, in_the_way
+from stowhold.hall import done_text, lifts_text
 from stowhold.lifts import after_lift, after_lifts, sound_row, way_back
 from stowhold.loading import loaded, loaded_by_ports
 from stowhold.loads import Load, box_at, cell_of, top_of
 from stowhold.moments import even, makeweight, moments, moments_with, moments_without
+from stowhold.notes import read_load, written_box, written_load
 from stowhold.places import bar_at, bars_of, free_places
 from stowhold.rules import Apart, Cold, Height, Lash, Rule, Strength, faults_of, sound
 from stowhold.ships import Ship, cells_of, part_at, parts_of
+from stowhold.voyage import Voyage
 
 
 def lists_within(thing):
@@ -50,6 +55,56 @@ MUST_OFF = [("a", "goes", ""), ("b", "above", "a"), ("d", "hatch", "a"), ("m", "
 def boxes_to_load():
     """Two that can be loaded onto faulty_load, and two that can not, neither in the order of ports."""
     return [box("z", 99, port=1), box("c", port=1), box("y", 99, port=2), box("e", port=3)]
+
+
+def filling_load():
+    """A load with a box in the way, and a ship of one bay with room for two or three more."""
+    ship = Ship(*ship_args([[(part(3, plugs=[0]), part(1)), (part(1, 9), part(0))]]))
+    return Load(ship, [((0, 0, 0, 0), box("a", port=1)), ((0, 0, 0, 1), box("b", port=2))])
+
+
+def boxes_to_fill():
+    return [box("z", port=3), box("c", port=2)]
+
+
+def boxes_too_many():
+    return [box("z", 10, port=3), box("c", port=2), box("d", 10, 3, 1), box("e")]
+
+
+def paper_of_none():
+    try:
+        return best_filling(filling_load(), boxes_too_many())
+    except NoFilling as refusal:
+        return refusal.paper
+
+
+def lists_of(paper):
+    """All lists within a paper."""
+    if paper[0] != "part":
+        return []
+    told = [paper[1]] + lists_of(paper[2])
+    for name, put in paper[1]:
+        told += lists_of(put) if isinstance(put, tuple) else []
+    return told
+
+
+def some_voyage():
+    """A voyage with something in its load, on its quay, ashore and in its plan."""
+    voyage = Voyage(Ship(*listed_args()))
+    for one in (box("a", port=1), box("b", port=2), box("c", port=3), box("d", port=4)):
+        voyage.bring(one)
+    placed = [((0, 0, 0, 0), box("a", port=1)), ((0, 1, 0, 0), box("b", port=2))]
+    voyage.plan_for(placed)
+    for lift in voyage.lifts_left():
+        voyage.do_lift(lift)
+    voyage.sail()
+    voyage.do_lift(("off", (0, 0, 0, 0)))
+    voyage.plan_for([((0, 1, 0, 0), box("b", port=2)), ((0, 0, 1, 0), box("d", port=4))])
+    return voyage
+
+
+def told_by(voyage):
+    return (voyage.port(), voyage.load_now().placed, voyage.quay(), voyage.ashore(), voyage.log(), voyage.lifts_left())
 
 
 class HandedIn(unittest.TestCase):
@@ -151,6 +206,59 @@ class HandedIn(unittest.TestCase):
             self.assertRaises(refusal, ask)
             self.assertEqual((vars(ship), load.placed), before)
 
+    def test_fillings_change_neither_load_nor_boxes(self):
+        load, boxes = filling_load(), boxes_to_fill()
+        before = copy.deepcopy((vars(load.ship), load.placed))
+        in_the_way(load)
+        filled, paper = best_filling(load, boxes)
+        self.assertIn("b", in_the_way(filled))
+        self.assertEqual((vars(load.ship), load.placed), before)
+        self.assertEqual(boxes, boxes_to_fill())
+        for refusal, wrong in ((Twice, boxes + [box("a")]), (Twice, boxes + boxes), (NoFilling, boxes_too_many())):
+            asked = list(wrong)
+            self.assertRaises(refusal, best_filling, load, asked)
+            self.assertEqual(asked, wrong)
+            self.assertEqual((vars(load.ship), load.placed), before)
+
+    def test_a_voyage_changes_neither_ship_nor_plan(self):
+        ship = Ship(*listed_args())
+        before = copy.deepcopy(vars(ship))
+        voyage = Voyage(ship)
+        voyage.bring(box("a"))
+        placed = [((0, 1, 0, 0), box("a"))]
+        voyage.plan_for(placed)
+        for lift in voyage.lifts_left():
+            voyage.do_lift(lift)
+        voyage.bring(box("b"))
+        for refusal, wrong in ((NoLoad, [((0, 1, 0, 1), box("b")), ((0, 1, 0, 0), box("a")), ((0, 1, 0, 3), box("c"))]),
+                               (NoPlan, [((0, 1, 0, 1), box("c")), ((0, 1, 0, 0), box("a"))])):
+            asked = list(wrong)
+            self.assertRaises(refusal, voyage.plan_for, asked)
+            self.assertEqual(asked, wrong)
+        turned = [((0, 1, 1, 0), box("b")), ((0, 1, 0, 0), box("a"))]
+        voyage.plan_for(turned)
+        self.assertEqual((placed, turned), ([((0, 1, 0, 0), box("a"))],
+                                            [((0, 1, 1, 0), box("b")), ((0, 1, 0, 0), box("a"))]))
+        self.assertEqual(vars(ship), before)
+
+    def test_texts_change_neither_ship_nor_load(self):
+        ship, load = faulty_load()
+        before = copy.deepcopy((vars(ship), load.placed))
+        text = written_load(load)
+        row = lifts_text(ship, text, "")
+        for ask in (lambda: written_box(box("a")), lambda: written_load(load), lambda: read_load(ship, text),
+                    lambda: read_load(ship, ""), lambda: lifts_text(ship, text, ""),
+                    lambda: done_text(ship, text, row)):
+            ask()
+            self.assertEqual((vars(ship), load.placed), before)
+        for refusal, ask in ((NoNote, lambda: read_load(ship, "x")),
+                             (NoLoad, lambda: read_load(ship, text + "\n" + text)),
+                             (NoNote, lambda: lifts_text(ship, text, "x")),
+                             (NoNote, lambda: done_text(ship, text, "x")),
+                             (BadRow, lambda: done_text(ship, "", row))):
+            self.assertRaises(refusal, ask)
+            self.assertEqual((vars(ship), load.placed), before)
+
     def test_a_list_of_boxes_is_as_it_was(self):
         ship, load = faulty_load()
         for load_boxes in (loaded, loaded_by_ports):
@@ -229,6 +337,28 @@ class NotKept(unittest.TestCase):
             boxes.clear()
             self.assertEqual((filled.placed, left), before)
             self.assertIsNot(load_boxes(load, boxes)[1], boxes)
+
+    def test_boxes_to_fill_changed_afterwards(self):
+        boxes = boxes_to_fill()
+        filled, paper = best_filling(filling_load(), boxes)
+        before = copy.deepcopy((filled.placed, paper))
+        boxes[0] = box("f")
+        boxes.append(box("g"))
+        self.assertEqual((filled.placed, paper), before)
+        self.assertEqual(best_filling(filling_load(), boxes_to_fill())[1], before[1])
+
+    def test_a_plans_list_changed_afterwards(self):
+        voyage = Voyage(Ship(*listed_args()))
+        voyage.bring(box("a"))
+        voyage.bring(box("b"))
+        placed = [((0, 1, 0, 0), box("a"))]
+        voyage.plan_for(placed)
+        placed.append(((0, 0, 0, 0), box("b")))
+        placed[0] = ((0, 1, 0, 0), box("b"))
+        self.assertEqual(voyage.lifts_left(), [("on", (0, 1, 0, 0), box("a"))])
+        self.assertEqual(voyage.log()[-1], ("plan", (((0, 1, 0, 0), box("a")),)))
+        voyage.do_lift(("on", (0, 1, 0, 0), box("a")))
+        voyage.sail()
 
 
 class Told(unittest.TestCase):
@@ -343,6 +473,72 @@ class Told(unittest.TestCase):
         left[0][1].append("more")
         self.assertEqual(left[1], (box("b"), []))
         self.assertEqual(loaded(load, [box("a")])[1], [(box("a"), [])])
+
+    def test_names_in_the_way_are_the_askers_own(self):
+        load = filling_load()
+        self.check_own(lambda: in_the_way(load), ["b"])
+        empty = Load(load.ship, [])
+        in_the_way(empty).append("a")
+        self.assertEqual(in_the_way(empty), [])
+
+    def test_papers_are_the_askers_own(self):
+        for tell in (paper_of_none, lambda: best_filling(filling_load(), boxes_to_fill())[1]):
+            first, second = tell(), tell()
+            before = copy.deepcopy(second)
+            self.assertGreater(len(lists_of(first)), 3)
+            for told in lists_of(first):
+                told.clear()
+            self.assertEqual(second, before)
+            self.assertEqual(tell(), before)
+
+    def test_no_list_stands_twice_in_a_paper(self):
+        for paper in (paper_of_none(), best_filling(filling_load(), boxes_to_fill())[1]):
+            told = lists_of(paper)
+            self.assertEqual(len({id(one) for one in told}), len(told))
+
+    def test_what_was_told_of_a_voyage_is_the_askers_own(self):
+        voyage = some_voyage()
+        before = copy.deepcopy(told_by(voyage))
+        for tell in (voyage.quay, voyage.ashore, voyage.log, voyage.lifts_left):
+            self.check_own(tell, tell())
+        self.assertEqual(told_by(voyage), before)
+        for told in before[2] + before[3] + before[4] + before[5]:
+            self.assertIsInstance(told, tuple)
+            self.assertFalse(lists_within(told))
+
+    def test_later_deeds_change_nothing_that_a_voyage_told(self):
+        voyage = some_voyage()
+        load, told = voyage.load_now(), told_by(voyage)
+        before = copy.deepcopy((load.placed, told))
+        voyage.bring(box("e", port=5))
+        voyage.do_lift(("off", (0, 1, 0, 0)))
+        voyage.plan_for([((1, 0, 0, 0), box("e", port=5))])
+        for lift in voyage.lifts_left():
+            voyage.do_lift(lift)
+        voyage.sail()
+        self.assertEqual((load.placed, told), before)
+        self.assertEqual((box_at(load, (0, 1, 0, 0)), cell_of(load, "e")), (box("b", port=2), None))
+        self.assertEqual((len(voyage.log()), voyage.quay()[-1], voyage.load_now().placed),
+                         (len(told[4]) + 5, box("b", port=2), (((1, 0, 0, 0), box("e", port=5)),)))
+
+    def test_empty_lists_of_a_voyage_are_the_askers_own(self):
+        voyage = Voyage(Ship(*listed_args()))
+        voyage.plan_for([])
+        for tell in (voyage.quay, voyage.ashore, voyage.lifts_left):
+            tell().append("more")
+            self.assertEqual(tell(), [])
+        self.assertEqual(Voyage(Ship(*listed_args())).quay(), [])
+
+    def test_a_refused_deed_keeps_nothing(self):
+        voyage = some_voyage()
+        before = copy.deepcopy(told_by(voyage))
+        for deed, asked in ((voyage.bring, box("a", port=9)), (voyage.bring, box("f", port=1)),
+                            (voyage.plan_for, [((0, 0, 0, 1), box("d", port=4))]), (voyage.plan_for, []),
+                            (voyage.do_lift, ("off", (0, 0, 0, 0))), (voyage.do_lift, ("on", (1, 0, 0, 0), box("x")))):
+            self.assertRaises(StowError, deed, asked)
+            self.assertEqual(told_by(voyage), before)
+        self.assertRaises(StowError, voyage.sail)
+        self.assertEqual(told_by(voyage), before)
 
     def test_what_is_told_of_moments_holds_no_list(self):
         ship, load = faulty_load()

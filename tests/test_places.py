@@ -4,13 +4,13 @@ import itertools
 import random
 import unittest
 
-from samples import (GREAT, NOT_CELLS, box, chance_ship, great_box, great_ship, named, part, plain_ship, ship_args,
-                     uneven_ship_args)
+from samples import (GREAT, NOT_CELLS, bar_by_words, box, chance_ship, great_box, great_ship, named, part, plain_ship,
+                     ship_args, uneven_ship_args)
 from stowhold.errors import NoPlace, StowError, Twice
 from stowhold.lifts import after_lift
 from stowhold.loads import Load
 from stowhold.places import bar_at, bars_of, free_places
-from stowhold.rules import Apart, Cold, Height, Lash, Strength, faults_of
+from stowhold.rules import Apart, faults_of
 from stowhold.ships import Ship, cells_of, parts_of
 
 NEW = box("new", 6, 2, 0, "silk", 3)
@@ -27,16 +27,6 @@ def load_at(ship, *cells):
 
 def tiers(name_part, count):
     return [name_part + (tier,) for tier in range(count)]
-
-
-def bar_by_words(load, cell, one):
-    """What bar_at is to tell, word by word as [23] says it: each rule at each cell, with the box and without it."""
-    behind = Load(load.ship, load.placed + ((cell, one),))
-    for rule in (Strength(), Height(), Cold(), Apart(), Lash()):
-        for where in cells_of(load.ship):
-            if rule.broken(behind, where) and not rule.broken(load, where):
-                return rule.word()
-    return None
 
 
 def chance_box(chance, name):
